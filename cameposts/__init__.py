@@ -1,0 +1,1 @@
+"""Cameposts: posts that point where the last one came from."""

@@ -1,0 +1,137 @@
+"""What each answer and each refusal must keep (promise [2]), checked around every call of the tests."""
+
+import copy
+import unittest
+
+# The arguments of each function of the interface, by name.
+ARGUMENTS = {
+    "town_wrong": ("thing",),
+    "ends_at": ("town", "place"),
+    "standing_wrong": ("town", "thing"),
+    "row_wrong": ("town", "standing", "thing"),
+    "led_by": ("town", "standing", "row"),
+    "trail_of": ("town", "standing", "row"),
+    "row_back": ("town", "standing", "row"),
+}
+
+HUGE = 10 ** 5000
+
+
+def nested(kind, deep):
+    thing = kind()
+    for _ in range(deep - 1):
+        thing = kind([thing])
+    return thing
+
+
+# Anything, but no town, no standing, no row, no place, no end and no deed.
+THINGS = [
+    None, True, False, -1, 9, HUGE, -HUGE, "", "a", "ab", "step", "town", " ~",
+    (), (None,), (1,), ("a",), [1], [None], ["a", "b"], [[], []], (1, 2), (None, None), ("a", "b"),
+    (True, False), (HUGE, HUGE), ([], [], []), (1, [(0, 0)], 0), [1, [(0, 0)]], [(0, 0), (0, 1)],
+    nested(tuple, 100), nested(list, 100), [nested(tuple, 99), HUGE],
+]
+
+
+def shape(thing):
+    """A picture of the thing in which True is not 1 and a list is no tuple."""
+    kind = type(thing).__name__
+    if isinstance(thing, (tuple, list)):
+        return [kind] + [shape(part) for part in thing]
+    if isinstance(thing, dict):
+        return [kind] + [[shape(key), shape(thing[key])] for key in thing]
+    return [kind, thing]
+
+
+def parts_of(thing):
+    """The thing and all that is in it."""
+    if isinstance(thing, (tuple, list)):
+        return [thing] + [each for part in thing for each in parts_of(part)]
+    if isinstance(thing, dict):
+        return [thing] + [each for key in thing for part in (key, thing[key]) for each in parts_of(part)]
+    return [thing]
+
+
+def changeables(thing):
+    return [part for part in parts_of(thing) if isinstance(part, (list, dict))]
+
+
+def spoil(thing):
+    """Change every list and dict in the thing."""
+    for part in changeables(thing):
+        if isinstance(part, dict):
+            part.clear()
+            part["spoilt"] = "spoilt"
+        else:
+            part[:] = ["spoilt"] + part[1:] + ["spoilt"]
+
+
+def brief(thing):
+    """A text for messages; Python makes none of a number of thousands of figures."""
+    try:
+        return repr(thing)[:300]
+    except ValueError:
+        return "a thing with a huge number in it"
+
+
+class Checks(unittest.TestCase):
+    def assertSame(self, first, second):
+        self.assertTrue(shape(first) == shape(second), f"{brief(first)} is not {brief(second)}")
+
+    def assertPlain(self, thing):
+        for part in parts_of(thing):
+            self.assertIn(type(part), (type(None), bool, int, str, tuple, list, dict))
+
+    def assertApart(self, *things):
+        """No list and no dict stands at two places of the things."""
+        every = [id(part) for thing in things for part in changeables(thing)]
+        self.assertEqual(len(every), len(set(every)))
+
+    def told(self, function, *arguments):
+        """What the function tells, with all checked that holds of every answer."""
+        given = shape(arguments)
+        handed = copy.deepcopy(arguments)
+        first = function(*handed)
+        answer = copy.deepcopy(first)
+        self.assertTrue(shape(handed) == given, "what was handed in is changed")
+        self.assertPlain(first)
+        self.assertApart(first)
+        owned = [id(part) for part in changeables(handed)]
+        self.assertFalse([part for part in changeables(first) if id(part) in owned], "told what was handed in")
+        second = function(*handed)
+        self.assertApart(first, second)
+        self.assertSame(second, answer)
+        spoil(second)
+        self.assertTrue(shape(handed) == given, "a change of the answer changes what was handed in")
+        named = dict(zip(ARGUMENTS[function.__name__], handed))
+        self.assertEqual(len(named), len(handed))
+        self.assertSame(function(**named), answer)
+        spoil(handed)
+        self.assertSame(first, answer)
+        self.assertSame(function(*copy.deepcopy(arguments)), answer)
+        return answer
+
+    def check(self, answer, function, *arguments):
+        self.assertSame(self.told(function, *arguments), answer)
+
+    def refuse(self, error, function, *arguments):
+        """The refusal that the function raises, by places and by names, twice over."""
+        given = shape(arguments)
+        handed = copy.deepcopy(arguments)
+        named = dict(zip(ARGUMENTS[function.__name__], handed))
+        self.assertEqual(len(named), len(handed))
+        caught = []
+        for _ in range(2):
+            with self.assertRaises(error) as by_places:
+                function(*handed)
+            with self.assertRaises(error) as by_names:
+                function(**named)
+            caught += [by_places.exception, by_names.exception]
+            self.assertTrue(shape(handed) == given, "what was handed in is changed")
+        self.assertEqual([type(each) for each in caught], [error] * 4)
+        return caught
+
+    def check_wrong(self, error, wrong, function, *arguments):
+        """It refuses with this error, whose field wrong is this."""
+        for each in self.refuse(error, function, *arguments):
+            self.assertSame(each.wrong, wrong)
