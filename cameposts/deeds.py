@@ -1,14 +1,24 @@
 """Deeds and rows of deeds: what they are, where they lead, and how to come back."""
 
 from cameposts.errors import NoRow
-from cameposts.towns import is_pair, need_standing, other_end, place_of
+from cameposts.towns import gather_all_ends, need_standing
 
 MOST_DEEDS = 4000
 
+# So many first deeds of a row are a sample of it.
+SAMPLE = 32
 
-def is_deed(thing, names):
-    """Tell whether it is a step or an about of one who has one of the names."""
-    return is_pair(thing) and thing[0] in ("step", "about") and thing[1] in names
+
+def deeds_of(names):
+    """List the deeds of those who have the names."""
+    return [(word, name) for word in ("step", "about") for name in names]
+
+
+def put_usual_ahead(deeds, row):
+    """List the deeds anew, those ahead that come oftener at the row's beginning."""
+    sample = row[:SAMPLE]
+    ranks = sorted([(-sample.count(deed), number) for number, deed in enumerate(deeds)])
+    return [deeds[number] for _, number in ranks]
 
 
 def row_wrong(town, standing, thing):
@@ -16,10 +26,12 @@ def row_wrong(town, standing, thing):
     need_standing(town, standing)
     if not isinstance(thing, list) or len(thing) > MOST_DEEDS:
         return ("row",)
-    names = [walker[0] for walker in standing[1]]
-    for number, deed in enumerate(thing):
-        if not is_deed(deed, names):
-            return ("deed", number)
+    # A row may be long. To look for a deed as a whole takes less time than to
+    # look at its parts, and least where it is found soon.
+    deeds = put_usual_ahead(deeds_of([name for name, _ in standing[1]]), thing)
+    for deed in thing:
+        if deed not in deeds:
+            return ("deed", thing.index(deed))
     return None
 
 
@@ -30,48 +42,52 @@ def need_row(town, standing, row):
         raise NoRow(wrong)
 
 
-def do_deed(town, posts, faces, deed):
-    """Change posts, and faces (by name the end that each walker faces), as the deed does."""
-    word, name = deed
-    end = faces[name]
-    if word == "about":
-        faces[name] = other_end(end)
-    else:
-        place = place_of(town, end)
-        faces[name] = other_end(posts[place])
-        posts[place] = end
+def walk(town, standing, row):
+    """Do the row's deeds: tell the posts, by name what each walker faces, and the trail, all as numbers of ends."""
+    # An end's number is its place among all ends, in the order of tuples: the
+    # other end of its road has the number that differs in the last bit alone.
+    # With numbers, and without a call for each deed, long rows are done soon.
+    places = [place for road in town[1] for place in road]
+    posts = [2 * road + side for road, side in standing[0]]
+    faces = {name: 2 * road + side for name, (road, side) in standing[1]}
+    trail = []
+    for word, name in row:
+        end = faces[name]
+        if word == "step":
+            place = places[end]
+            gone = posts[place] ^ 1
+            posts[place] = end
+        else:
+            gone = end ^ 1
+        faces[name] = gone
+        trail.append(gone)
+    return posts, faces, trail
 
 
 def led_by(town, standing, row):
     """Tell the standing behind all deeds of the row."""
     need_row(town, standing, row)
-    posts = list(standing[0])
-    faces = dict(standing[1])
-    for deed in row:
-        do_deed(town, posts, faces, deed)
-    return (posts, [(name, faces[name]) for name in faces])
+    posts, faces, _ = walk(town, standing, row)
+    ends = gather_all_ends(town)
+    return ([ends[post] for post in posts], [(name, ends[faces[name]]) for name in faces])
 
 
 def trail_of(town, standing, row):
     """List the ends that the deeds' walkers face, each behind its own deed."""
     need_row(town, standing, row)
-    posts = list(standing[0])
-    faces = dict(standing[1])
-    trail = []
-    for deed in row:
-        do_deed(town, posts, faces, deed)
-        trail.append(faces[deed[1]])
-    return trail
+    _, _, trail = walk(town, standing, row)
+    ends = gather_all_ends(town)
+    return [ends[number] for number in trail]
 
 
 def row_back(town, standing, row):
     """Tell a row that leads from what the row leads to, back to the standing."""
     need_row(town, standing, row)
-    steppers = sorted({name for word, name in row if word == "step"})
+    steppers = [name for name, _ in standing[1] if ("step", name) in row]
     # Faced about, a walker goes back through a place just as it came, since
     # the post there still points to the end by which it came.
     abouts = [("about", name) for name in steppers]
-    back = abouts + list(reversed(row)) + abouts
+    back = abouts + row[::-1] + abouts
     if len(back) > MOST_DEEDS:
         raise NoRow(("row",))
     return back

@@ -66,6 +66,11 @@ def gather_ends(roads, place):
     return [(road, side) for road in range(len(roads)) for side in range(2) if roads[road][side] == place]
 
 
+def gather_all_ends(town):
+    """List all ends of the town's roads, in the order of tuples."""
+    return [(road, side) for road in range(len(town[1])) for side in range(2)]
+
+
 def town_wrong(thing):
     """Tell None of a town, of anything else the first that is not so."""
     if not is_pair(thing):
@@ -78,8 +83,9 @@ def town_wrong(thing):
     for number, road in enumerate(roads):
         if not is_road(road, many):
             return ("road", number)
+    met = {place for road in roads for place in road}
     for place in range(many):
-        if not gather_ends(roads, place):
+        if place not in met:
             return ("bare", place)
     return None
 
@@ -91,11 +97,16 @@ def need_town(town):
         raise NoTown(wrong)
 
 
+def need_place(town, place):
+    """Refuse what is no place of the town."""
+    if not is_below(place, town[0]):
+        raise NoPlace("this is no place of the town")
+
+
 def ends_at(town, place):
     """List the ends at a place of the town, in the order of tuples."""
     need_town(town)
-    if not is_below(place, town[0]):
-        raise NoPlace("this is no place of the town")
+    need_place(town, place)
     return gather_ends(town[1], place)
 
 
@@ -121,9 +132,8 @@ def walkers_wrong(town, walkers):
     return None
 
 
-def standing_wrong(town, thing):
-    """Tell None of a standing of the town, of anything else the first that is not so."""
-    need_town(town)
+def find_standing_wrong(town, thing):
+    """Tell None of a standing of what is a town, of anything else the first that is not so."""
     if not is_pair(thing) or not isinstance(thing[0], list) or not isinstance(thing[1], list):
         return ("standing",)
     posts, walkers = thing
@@ -133,8 +143,21 @@ def standing_wrong(town, thing):
     return walkers_wrong(town, walkers)
 
 
+def standing_wrong(town, thing):
+    """Tell None of a standing of the town, of anything else the first that is not so."""
+    need_town(town)
+    return find_standing_wrong(town, thing)
+
+
+def need_standings(town, standings):
+    """Refuse what is no town, then, of each in order, what is no standing of it."""
+    need_town(town)
+    for standing in standings:
+        wrong = find_standing_wrong(town, standing)
+        if wrong is not None:
+            raise NoStanding(wrong)
+
+
 def need_standing(town, standing):
     """Refuse what is no town, then what is no standing of it."""
-    wrong = standing_wrong(town, standing)
-    if wrong is not None:
-        raise NoStanding(wrong)
+    need_standings(town, [standing])

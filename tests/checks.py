@@ -3,7 +3,7 @@
 import copy
 import unittest
 
-# The arguments of each function of the interface, by name.
+# The arguments of each function of the interface, by name, without those behind a star.
 ARGUMENTS = {
     "town_wrong": ("thing",),
     "ends_at": ("town", "place"),
@@ -12,6 +12,30 @@ ARGUMENTS = {
     "led_by": ("town", "standing", "row"),
     "trail_of": ("town", "standing", "row"),
     "row_back": ("town", "standing", "row"),
+    "holding_of": ("town", "standing"),
+    "heaps_of": ("town", "standing"),
+    "goers_in": ("town", "standing"),
+    "basins_of": ("town", "standing"),
+    "pendants_of": ("town", "standing"),
+    "can_walk": ("town", "standing"),
+    "can_point": ("town", "standing", "place"),
+    "run_of": ("town", "standing", "name"),
+    "circuit_of": ("town", "standing", "name"),
+    "round_of": ("town", "standing", "name"),
+    "standing_behind": ("town", "standing", "name"),
+    "first_time": ("town", "standing", "name", "end"),
+    "sign_of": ("town", "standing", "place"),
+    "unlike_signs": ("town", "one", "other"),
+    "evens_between": ("town", "one", "other"),
+    "bar_between": ("town", "one", "other"),
+    "bar_shows": ("town", "one", "other", "paper"),
+}
+
+# The arguments that are handed in by their names alone.
+BY_NAME_ALONE = {
+    "standing_behind": ("steps",),
+    "bar_between": ("goers", "abouts"),
+    "bar_shows": ("goers", "abouts"),
 }
 
 HUGE = 10 ** 5000
@@ -87,51 +111,54 @@ class Checks(unittest.TestCase):
         every = [id(part) for thing in things for part in changeables(thing)]
         self.assertEqual(len(every), len(set(every)))
 
-    def told(self, function, *arguments):
+    def told(self, function, *arguments, **behind):
         """What the function tells, with all checked that holds of every answer."""
-        given = shape(arguments)
-        handed = copy.deepcopy(arguments)
-        first = function(*handed)
+        given = shape((arguments, behind))
+        handed, named = copy.deepcopy((arguments, behind))
+        first = function(*handed, **named)
         answer = copy.deepcopy(first)
-        self.assertTrue(shape(handed) == given, "what was handed in is changed")
+        self.assertTrue(shape((handed, named)) == given, "what was handed in is changed")
         self.assertPlain(first)
         self.assertApart(first)
-        owned = [id(part) for part in changeables(handed)]
+        owned = [id(part) for part in changeables((handed, named))]
         self.assertFalse([part for part in changeables(first) if id(part) in owned], "told what was handed in")
-        second = function(*handed)
+        second = function(*handed, **named)
         self.assertApart(first, second)
         self.assertSame(second, answer)
         spoil(second)
-        self.assertTrue(shape(handed) == given, "a change of the answer changes what was handed in")
-        named = dict(zip(ARGUMENTS[function.__name__], handed))
-        self.assertEqual(len(named), len(handed))
-        self.assertSame(function(**named), answer)
-        spoil(handed)
+        self.assertTrue(shape((handed, named)) == given, "a change of the answer changes what was handed in")
+        self.assertSame(function(**self.by_names(function, handed, named)), answer)
+        spoil((handed, list(named.values())))
         self.assertSame(first, answer)
-        self.assertSame(function(*copy.deepcopy(arguments)), answer)
+        self.assertSame(function(*copy.deepcopy(arguments), **copy.deepcopy(behind)), answer)
         return answer
 
-    def check(self, answer, function, *arguments):
-        self.assertSame(self.told(function, *arguments), answer)
+    def by_names(self, function, handed, named):
+        """All arguments of a call by their names."""
+        names = ARGUMENTS[function.__name__]
+        self.assertEqual(len(names), len(handed))
+        self.assertLessEqual(set(named), set(BY_NAME_ALONE.get(function.__name__, ())))
+        return {**dict(zip(names, handed)), **named}
 
-    def refuse(self, error, function, *arguments):
+    def check(self, answer, function, *arguments, **behind):
+        self.assertSame(self.told(function, *arguments, **behind), answer)
+
+    def refuse(self, error, function, *arguments, **behind):
         """The refusal that the function raises, by places and by names, twice over."""
-        given = shape(arguments)
-        handed = copy.deepcopy(arguments)
-        named = dict(zip(ARGUMENTS[function.__name__], handed))
-        self.assertEqual(len(named), len(handed))
+        given = shape((arguments, behind))
+        handed, named = copy.deepcopy((arguments, behind))
         caught = []
         for _ in range(2):
             with self.assertRaises(error) as by_places:
-                function(*handed)
+                function(*handed, **named)
             with self.assertRaises(error) as by_names:
-                function(**named)
+                function(**self.by_names(function, handed, named))
             caught += [by_places.exception, by_names.exception]
-            self.assertTrue(shape(handed) == given, "what was handed in is changed")
+            self.assertTrue(shape((handed, named)) == given, "what was handed in is changed")
         self.assertEqual([type(each) for each in caught], [error] * 4)
         return caught
 
-    def check_wrong(self, error, wrong, function, *arguments):
+    def check_wrong(self, error, wrong, function, *arguments, **behind):
         """It refuses with this error, whose field wrong is this."""
-        for each in self.refuse(error, function, *arguments):
+        for each in self.refuse(error, function, *arguments, **behind):
             self.assertSame(each.wrong, wrong)

@@ -5,13 +5,19 @@ import inspect
 import os
 import unittest
 
-from cameposts import deeds, errors, towns
-from tests.checks import ARGUMENTS
+from cameposts import bars, deeds, errors, goers, held, signs, towns
+from tests.checks import ARGUMENTS, BY_NAME_ALONE
 
 FUNCTIONS = {
     towns: ("town_wrong", "ends_at", "standing_wrong"),
     deeds: ("row_wrong", "led_by", "trail_of", "row_back"),
+    held: ("holding_of", "heaps_of", "goers_in", "basins_of", "pendants_of", "can_walk", "can_point"),
+    goers: ("run_of", "circuit_of", "round_of", "standing_behind", "first_time"),
+    signs: ("sign_of", "unlike_signs", "evens_between"),
+    bars: ("bar_between", "bar_shows"),
 }
+# What these are where they are left out; the others of those behind a star must be handed in.
+LEFT_OUT = {"goers": None, "abouts": True}
 CLASSES = {
     errors: ("PostError", "NoChoice", "NoEnd", "NoGoers", "NoName", "NoNumber", "NoPair", "NoPlace", "NoRow",
              "NoStanding", "NoTown", "NoWishes"),
@@ -29,10 +35,14 @@ class Interface(unittest.TestCase):
             for name in names:
                 self.assertEqual(defined_in(module, ast.FunctionDef).count(name), 1)
                 parameters = inspect.signature(getattr(module, name)).parameters
-                self.assertEqual(tuple(parameters), ARGUMENTS[name])
-                for each in parameters.values():
-                    self.assertIs(each.kind, inspect.Parameter.POSITIONAL_OR_KEYWORD)
-                    self.assertIs(each.default, inspect.Parameter.empty)
+                behind = BY_NAME_ALONE.get(name, ())
+                self.assertEqual(tuple(parameters), ARGUMENTS[name] + behind)
+                for each in ARGUMENTS[name]:
+                    self.assertIs(parameters[each].kind, inspect.Parameter.POSITIONAL_OR_KEYWORD)
+                    self.assertIs(parameters[each].default, inspect.Parameter.empty)
+                for each in behind:
+                    self.assertIs(parameters[each].kind, inspect.Parameter.KEYWORD_ONLY)
+                    self.assertIs(parameters[each].default, LEFT_OUT.get(each, inspect.Parameter.empty))
 
     def test_classes(self):
         for module, names in CLASSES.items():

@@ -1,0 +1,71 @@
+"""Signs of clean heaps, and standings of one holding."""
+
+from cameposts.errors import NoPair
+from cameposts.held import count_held, find_goers, find_heaps, join_places, names_in
+from cameposts.towns import need_place, need_standing, need_standings
+
+
+def find_lines(town, standing):
+    """Tell for each clean heap, by its least place, rising, its posts' ends and its walkers' ends."""
+    holding = count_held(standing)
+    faces = dict(standing[1])
+    lines = {}
+    for heap in join_places(town, holding):
+        posts = [standing[0][place] for place in heap]
+        ends = [faces[name] for name in names_in(town, standing[1], heap)]
+        if ends and all([holding[road] == 1 for road, _ in posts + ends]):
+            lines[heap[0]] = (posts, ends)
+    return lines
+
+
+def count_turned(line):
+    """Tell of how many two in the line the earlier holds the road of the greater number."""
+    posts, ends = line
+    roads = [road for road, _ in posts + ends]
+    return sum([1 for at, road in enumerate(roads) for later in roads[at + 1:] if later < road])
+
+
+def find_sign(line):
+    """Tell the sign of the heap that has the line."""
+    posts, ends = line
+    many = count_turned(line) + sum([side for _, side in posts]) + sum([1 - side for _, side in ends])
+    return 1 if many % 2 == 0 else -1
+
+
+def find_unlike(town, one, other):
+    """List the least places, rising, of the clean heaps whose signs are unlike in two standings of one holding."""
+    first = find_lines(town, one)
+    second = find_lines(town, other)
+    return [place for place in first if find_sign(first[place]) != find_sign(second[place])]
+
+
+def need_pair(town, one, other):
+    """Refuse what is no town, then what is no standing of it, then two that are not of one holding."""
+    need_standings(town, [one, other])
+    if count_held(one) != count_held(other) or find_goers(town, one) != find_goers(town, other):
+        raise NoPair("these are not of one holding")
+
+
+def sign_of(town, standing, place):
+    """Tell the sign of the place's heap, None where that isn't clean or has no walker."""
+    need_standing(town, standing)
+    need_place(town, place)
+    lines = find_lines(town, standing)
+    for heap in find_heaps(town, standing):
+        if place in heap and heap[0] in lines:
+            return find_sign(lines[heap[0]])
+    return None
+
+
+def unlike_signs(town, one, other):
+    """List the least places, rising, of the clean heaps whose signs are unlike."""
+    need_pair(town, one, other)
+    return find_unlike(town, one, other)
+
+
+def evens_between(town, one, other):
+    """Tell for each clean heap, by its least place, whether its line's roads change by evenly many exchanges."""
+    need_pair(town, one, other)
+    first = find_lines(town, one)
+    second = find_lines(town, other)
+    return {place: (count_turned(first[place]) + count_turned(second[place])) % 2 == 0 for place in first}
