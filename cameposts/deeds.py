@@ -21,18 +21,29 @@ def put_usual_ahead(deeds, row):
     return [deeds[number] for _, number in ranks]
 
 
+def first_other(row, deeds):
+    """Tell the number of the row's first deed that is none of these, None where all are."""
+    # A row may be long. To look for a deed as a whole takes less time than to
+    # look at its parts, and least where it is found soon.
+    usual = put_usual_ahead(deeds, row)
+    for deed in row:
+        if deed not in usual:
+            return row.index(deed)
+    return None
+
+
+def find_row_wrong(standing, thing):
+    """Tell None of a row for the walkers of what is a standing, of anything else the first that is not so."""
+    if not isinstance(thing, list) or len(thing) > MOST_DEEDS:
+        return ("row",)
+    number = first_other(thing, deeds_of([name for name, _ in standing[1]]))
+    return None if number is None else ("deed", number)
+
+
 def row_wrong(town, standing, thing):
     """Tell None of a row for the standing's walkers, of anything else the first that is not so."""
     need_standing(town, standing)
-    if not isinstance(thing, list) or len(thing) > MOST_DEEDS:
-        return ("row",)
-    # A row may be long. To look for a deed as a whole takes less time than to
-    # look at its parts, and least where it is found soon.
-    deeds = put_usual_ahead(deeds_of([name for name, _ in standing[1]]), thing)
-    for deed in thing:
-        if deed not in deeds:
-            return ("deed", thing.index(deed))
-    return None
+    return find_row_wrong(standing, thing)
 
 
 def need_row(town, standing, row):
@@ -64,12 +75,17 @@ def walk(town, standing, row):
     return posts, faces, trail
 
 
-def led_by(town, standing, row):
-    """Tell the standing behind all deeds of the row."""
-    need_row(town, standing, row)
+def lead(town, standing, row):
+    """Tell the standing behind all deeds of what is a row."""
     posts, faces, _ = walk(town, standing, row)
     ends = gather_all_ends(town)
     return ([ends[post] for post in posts], [(name, ends[faces[name]]) for name in faces])
+
+
+def led_by(town, standing, row):
+    """Tell the standing behind all deeds of the row."""
+    need_row(town, standing, row)
+    return lead(town, standing, row)
 
 
 def trail_of(town, standing, row):

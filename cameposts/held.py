@@ -3,10 +3,15 @@
 from cameposts.towns import gather_ends, need_place, need_standing, other_end, place_of
 
 
+def list_held(standing):
+    """List the roads that posts and walkers hold, in their order, each as often as it is held."""
+    posts, walkers = standing
+    return [end[0] for end in posts] + [end[0] for _, end in walkers]
+
+
 def count_held(standing):
     """Tell for each held road, rising, how often it is held."""
-    posts, walkers = standing
-    roads = [end[0] for end in posts] + [end[0] for _, end in walkers]
+    roads = list_held(standing)
     return {road: roads.count(road) for road in sorted(set(roads))}
 
 
@@ -14,14 +19,28 @@ def join_places(town, roads):
     """List the places that hang together by the roads: lists, rising, in the order of their least ones."""
     least = list(range(town[0]))
     for road in roads:
-        low, high = sorted([least[place] for place in town[1][road]])
-        least = [low if each == high else each for each in least]
-    return [[place for place in range(town[0]) if least[place] == top] for top in sorted(set(least))]
+        start, end = town[1][road]
+        low = least[start]
+        high = least[end]
+        if low > high:
+            low, high = high, low
+        if low != high:
+            least = [low if each == high else each for each in least]
+    joined = {}
+    for place, top in enumerate(least):
+        joined.setdefault(top, []).append(place)
+    # The least of what hangs together is met ahead of the others, so the keys were added rising.
+    return [joined[top] for top in joined]
 
 
 def find_heaps(town, standing):
     """List the heaps, in their order."""
     return join_places(town, count_held(standing))
+
+
+def find_heap(town, standing, place):
+    """List the places of the heap in which the place is."""
+    return [heap for heap in find_heaps(town, standing) if place in heap][0]
 
 
 def names_in(town, walkers, heap):

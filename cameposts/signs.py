@@ -1,20 +1,28 @@
 """Signs of clean heaps, and standings of one holding."""
 
 from cameposts.errors import NoPair
-from cameposts.held import count_held, find_goers, find_heaps, join_places, names_in
+from cameposts.held import count_held, find_goers, find_heap, find_heaps, join_places, names_in
 from cameposts.towns import need_place, need_standing, need_standings
+
+
+def find_line(town, standing, holding, heap):
+    """Tell the heap's posts' ends and its walkers' ends, None where it isn't clean or has no walker."""
+    names = names_in(town, standing[1], heap)
+    posts = [standing[0][place] for place in heap]
+    ends = [end for name, end in standing[1] if name in names]
+    if names and all([holding[road] == 1 for road, _ in posts + ends]):
+        return (posts, ends)
+    return None
 
 
 def find_lines(town, standing):
     """Tell for each clean heap, by its least place, rising, its posts' ends and its walkers' ends."""
     holding = count_held(standing)
-    faces = dict(standing[1])
     lines = {}
     for heap in join_places(town, holding):
-        posts = [standing[0][place] for place in heap]
-        ends = [faces[name] for name in names_in(town, standing[1], heap)]
-        if ends and all([holding[road] == 1 for road, _ in posts + ends]):
-            lines[heap[0]] = (posts, ends)
+        line = find_line(town, standing, holding, heap)
+        if line is not None:
+            lines[heap[0]] = line
     return lines
 
 
@@ -37,6 +45,15 @@ def find_unlike(town, one, other):
     first = find_lines(town, one)
     second = find_lines(town, other)
     return [place for place in first if find_sign(first[place]) != find_sign(second[place])]
+
+
+def is_unlike(town, one, other, place):
+    """Tell whether it is the least place of a clean heap whose signs are unlike in two standings of one holding."""
+    heap = find_heap(town, one, place)
+    holding = count_held(one)
+    first = find_line(town, one, holding, heap)
+    second = find_line(town, other, holding, heap)
+    return heap[0] == place and first is not None and find_sign(first) != find_sign(second)
 
 
 def need_pair(town, one, other):

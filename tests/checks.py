@@ -29,6 +29,15 @@ ARGUMENTS = {
     "evens_between": ("town", "one", "other"),
     "bar_between": ("town", "one", "other"),
     "bar_shows": ("town", "one", "other", "paper"),
+    "way_between": ("town", "one", "other"),
+    "least_abouts": ("town", "one", "other"),
+    "way_judged": ("town", "one", "other", "thing"),
+    "wishes_had": ("town", "standing", "wishes"),
+    "had_judged": ("town", "standing", "wishes", "thing"),
+    "least_goers": ("town", "one", "other"),
+    "how_many": ("town", "standing"),
+    "standing_at": ("town", "standing", "number"),
+    "number_of": ("town", "standing", "other"),
 }
 
 # The arguments that are handed in by their names alone.
@@ -36,6 +45,13 @@ BY_NAME_ALONE = {
     "standing_behind": ("steps",),
     "bar_between": ("goers", "abouts"),
     "bar_shows": ("goers", "abouts"),
+    "way_between": ("goers", "abouts"),
+    "least_abouts": ("goers",),
+    "way_judged": ("goers", "abouts"),
+    "least_goers": ("abouts",),
+    "how_many": ("abouts",),
+    "standing_at": ("abouts",),
+    "number_of": ("abouts",),
 }
 
 HUGE = 10 ** 5000
@@ -134,11 +150,12 @@ class Checks(unittest.TestCase):
         return answer
 
     def by_names(self, function, handed, named):
-        """All arguments of a call by their names."""
+        """All arguments of a call by their names, in another order."""
         names = ARGUMENTS[function.__name__]
         self.assertEqual(len(names), len(handed))
         self.assertLessEqual(set(named), set(BY_NAME_ALONE.get(function.__name__, ())))
-        return {**dict(zip(names, handed)), **named}
+        every = {**dict(zip(names, handed)), **named}
+        return {name: every[name] for name in reversed(list(every))}
 
     def check(self, answer, function, *arguments, **behind):
         self.assertSame(self.told(function, *arguments, **behind), answer)

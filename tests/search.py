@@ -63,3 +63,26 @@ def parts_of_all(town, names, goers, abouts):
             for each in come_to(town, key, goers, abouts):
                 part_of[each] = number
     return part_of
+
+
+def abouts_to(town, key, goers):
+    """For each standing to which rows of these goers' deeds lead, how many abouts it takes at the least."""
+    least = {key: 0}
+    level, many = [key], 0
+    while level:
+        waiting = list(level)
+        while waiting:
+            last = waiting.pop()
+            for behind in [deed_done(town, last, "step", name) for name in goers]:
+                if behind not in least:
+                    least[behind] = many
+                    waiting.append(behind)
+                    level.append(behind)
+        many += 1
+        turned = [deed_done(town, last, "about", name) for last in level for name in goers]
+        level = []
+        for behind in turned:
+            if behind not in least:
+                least[behind] = many
+                level.append(behind)
+    return least

@@ -1,6 +1,7 @@
 """Second ways to find what the program tells: straight from the document's words, however long they take."""
 
 from collections import Counter
+from itertools import combinations
 
 from tests.walks import place_at
 
@@ -161,3 +162,44 @@ def every_paper(town, names):
     papers += [(sort, name) for sort in ("other", "walker") for name in names]
     papers += [("held", road) for road in range(len(town[1]))]
     return papers + [(sort, place) for sort in ("still", "sign") for place in range(town[0])]
+
+
+def has_wishes(standing, wishes):
+    posts, roads = wishes
+    return all(standing[0][place] == end for place, end in posts) and all(
+        dict(standing[1])[name][0] == road for name, road in roads)
+
+
+def plain_wish_papers(town, standing, wishes):
+    """The papers of all sorts but ("few", ..) that are due, in the order of sorts and names, roads and places."""
+    posts, roads = dict(wishes[0]), dict(wishes[1])
+    held = Counter(roads_held(standing))
+    wished = Counter([end[0] for end in posts.values()] + list(roads.values()))
+    papers = []
+    for heap in heaps(town, standing):
+        for place in heap:
+            if not names_of_heap(town, standing, heap) and posts.get(place, standing[0][place]) != standing[0][place]:
+                papers.append(("still", place))
+    papers = sorted(papers)
+    for name in sorted(roads):
+        if not held[roads[name]] or town[1][roads[name]][1] not in home(town, standing, name):
+            papers.append(("far", name))
+    return papers + [("often", road) for road in range(len(town[1])) if wished[road] > held[road]]
+
+
+def few_due(town, standing, wishes, places):
+    """Whether ("few", places) is due, for a list of places, rising."""
+    posts, roads = dict(wishes[0]), dict(wishes[1])
+    inside = [heap for heap in heaps(town, standing) if set(places) <= set(heap)]
+    if not places or not inside or not names_of_heap(town, standing, inside[0]) or set(places) & set(posts):
+        return False
+    left = Counter(roads_held(standing))
+    left.subtract([end[0] for end in posts.values()] + list(roads.values()))
+    at = [many for road, many in left.items() if many > 0 and set(town[1][road]) & set(places)]
+    return sum(at) < len(places)
+
+
+def all_fews(town, standing, wishes):
+    """All due papers ("few", ..)."""
+    lots = [list(lot) for many in range(town[0] + 1) for lot in combinations(range(town[0]), many)]
+    return [("few", lot) for lot in lots if few_due(town, standing, wishes, lot)]

@@ -5,7 +5,7 @@ import inspect
 import os
 import unittest
 
-from cameposts import bars, deeds, errors, goers, held, signs, towns
+from cameposts import bars, counted, deeds, errors, goers, held, needed, signs, towns, ways, wishes
 from tests.checks import ARGUMENTS, BY_NAME_ALONE
 
 FUNCTIONS = {
@@ -15,6 +15,10 @@ FUNCTIONS = {
     goers: ("run_of", "circuit_of", "round_of", "standing_behind", "first_time"),
     signs: ("sign_of", "unlike_signs", "evens_between"),
     bars: ("bar_between", "bar_shows"),
+    ways: ("way_between", "least_abouts", "way_judged"),
+    wishes: ("wishes_had", "had_judged"),
+    needed: ("least_goers",),
+    counted: ("how_many", "standing_at", "number_of"),
 }
 # What these are where they are left out; the others of those behind a star must be handed in.
 LEFT_OUT = {"goers": None, "abouts": True}

@@ -5,9 +5,13 @@ import time
 import unittest
 
 from cameposts.bars import bar_between, bar_shows
+from cameposts.counted import how_many, number_of, standing_at
 from cameposts.goers import circuit_of, first_time, round_of, run_of, standing_behind
 from cameposts.held import basins_of, can_point, can_walk, goers_in, heaps_of, holding_of, pendants_of
+from cameposts.needed import least_goers
 from cameposts.signs import evens_between, sign_of, unlike_signs
+from cameposts.ways import least_abouts, way_between, way_judged
+from cameposts.wishes import had_judged, wishes_had
 from tests.checks import Checks
 from tests.walks import ends_of, place_at, some_row, walked
 
@@ -79,6 +83,33 @@ class Soon(Checks):
             self.soon(bar_between, [(lot, more) for lot in lots])
             self.soon(bar_shows, [((*lot, ("sign", 0)), more) for lot in lots])
             self.soon(bar_shows, [((*lot, ("held", 15)), more) for lot in lots])
+
+
+    def test_ways(self):
+        lots = list(full_lots(60, 26))
+        for more in ({}, {"abouts": False}, {"goers": ["ab", "kurt"]}, {"goers": [], "abouts": False}):
+            self.soon(way_between, [(lot, more) for lot in lots])
+            ways = [way_between(*lot, **more) for lot in lots]
+            self.soon(way_judged, [((*lot, way), more) for lot, way in zip(lots, ways)])
+            self.soon(way_judged, [((*lot, ("row", [("step", "kurt")] * 4000)), more) for lot in lots])
+        self.soon(least_abouts, [(lot, {}) for lot in lots])
+        self.soon(least_goers, [(lot, {}) for lot in lots])
+        self.soon(least_goers, [(lot, {"abouts": False}) for lot in lots])
+
+    def test_wishes(self):
+        lots = [(town, one, (list(enumerate(other[0]))[at::2], [(name, end[0]) for name, end in other[1][at:]]))
+                for town, one, other in full_lots(60, 27) for at in (0, 1)]
+        self.soon(wishes_had, [(lot, {}) for lot in lots])
+        self.soon(had_judged, [((*lot, wishes_had(*lot)), {}) for lot in lots])
+        self.soon(had_judged, [((*lot, ("bar", ("few", list(range(8))))), {}) for lot in lots])
+
+    def test_counted(self):
+        lots = list(full_lots(60, 28))
+        for more in ({}, {"abouts": False}):
+            self.soon(how_many, [((town, one), more) for town, one, _ in lots])
+            many = [how_many(town, one, **more) for town, one, _ in lots]
+            self.soon(standing_at, [((town, one, most - 1), more) for (town, one, _), most in zip(lots, many)])
+        self.soon(number_of, [(lot, {}) for lot in lots])
 
 
 class Full(Checks):
