@@ -1,8 +1,8 @@
 """Questions of one standing and another, and papers that show that no row leads there."""
 
 from cameposts.errors import NoChoice, NoGoers
-from cameposts.held import find_heap, find_heaps, list_held, names_in
-from cameposts.signs import find_unlike, is_unlike
+from cameposts.held import find_heap, find_heaps, find_home, list_held, names_in
+from cameposts.signs import find_unlike, is_turned
 from cameposts.towns import is_below, is_pair, need_standings, place_of
 
 
@@ -52,8 +52,10 @@ def find_strayed(one, other, goers):
 
 def find_unlike_held(town, first, second):
     """List the papers of the roads that are held otherwise in the two views."""
-    ahead = list_held(first)
-    behind = list_held(second)
+    ahead = sorted(list_held(first))
+    behind = sorted(list_held(second))
+    if ahead == behind:
+        return []
     return [("held", road) for road in range(len(town[1])) if ahead.count(road) != behind.count(road)]
 
 
@@ -86,48 +88,61 @@ def find_bar(town, one, other, goers, abouts):
     return papers[0] if papers else None
 
 
-def faces_unlike(one, other, name):
-    """Tell whether this walker faces unlike ends in both."""
-    return dict(one[1])[name] != dict(other[1])[name]
+def is_other_due(one, other, name, goers):
+    """Tell whether this is one who is no goer and faces unlike ends in both."""
+    return name in names_of(one) and name not in goers and dict(one[1])[name] != dict(other[1])[name]
 
 
-def moves(town, first, second, name):
-    """Tell whether this goer's heaps in the two views are unlike."""
-    homes = [find_heap(town, view, place_of(town, dict(view[1])[name])) for view in (first, second)]
-    return homes[0] != homes[1]
+def is_held_due(town, one, other, road, goers):
+    """Tell whether this is a road that is held otherwise in the two views."""
+    if not is_below(road, len(town[1])):
+        return False
+    return list_held(view_of(one, goers)).count(road) != list_held(view_of(other, goers)).count(road)
 
 
-def is_still(town, view, place):
-    """Tell whether the place is in no heap of a goer."""
+def is_walker_due(town, one, other, name, goers):
+    """Tell whether this is a goer whose heaps in the two views are unlike."""
+    if name not in goers:
+        return False
+    return find_home(town, view_of(one, goers), name) != find_home(town, view_of(other, goers), name)
+
+
+def is_still_due(town, one, other, place, goers):
+    """Tell whether this is a place in no goer's heap whose posts in both are unlike."""
+    if not is_below(place, town[0]) or one[0][place] == other[0][place]:
+        return False
+    view = view_of(one, goers)
     return not names_in(town, view[1], find_heap(town, view, place))
 
 
-def is_due(town, one, other, paper, goers, abouts):
-    """Tell whether a tuple of two things is a due paper of standings with the same names."""
-    sort, what = paper
-    first = view_of(one, goers)
-    second = view_of(other, goers)
-    if sort == "other":
-        return what in names_of(one) and what not in goers and faces_unlike(one, other, what)
-    if sort == "held":
-        return is_below(what, len(town[1])) and list_held(first).count(what) != list_held(second).count(what)
-    if sort == "walker":
-        return what in goers and moves(town, first, second, what)
-    if sort == "still":
-        return is_below(what, town[0]) and one[0][what] != other[0][what] and is_still(town, first, what)
-    if sort != "sign" or abouts or not is_below(what, town[0]):
+def is_sign_due(town, one, other, place, goers):
+    """Tell whether this is the least place of a heap with unlike signs, where no paper of another sort is due."""
+    if not is_below(place, town[0]):
         return False
+    view = view_of(one, goers)
+    heap = find_heap(town, view, place)
     # Only where no other paper is due the two views are of one holding, so that their signs can be compared.
-    return find_bar(town, one, other, goers, True) is None and is_unlike(town, first, second, what)
+    if place != heap[0] or find_bar(town, one, other, goers, True) is not None:
+        return False
+    return is_turned(town, view, view_of(other, goers), heap)
 
 
-def find_due(town, one, other, paper, goers, abouts):
-    """Tell whether the thing is a due paper."""
+def is_due(town, one, other, paper, goers, abouts):
+    """Tell whether the thing is a due paper, by what this one says alone."""
     if paper == ("names",):
         return names_of(one) != names_of(other)
     if not is_pair(paper) or names_of(one) != names_of(other):
         return False
-    return is_due(town, one, other, paper, goers, abouts)
+    sort, what = paper
+    if sort == "other":
+        return is_other_due(one, other, what, goers)
+    if sort == "held":
+        return is_held_due(town, one, other, what, goers)
+    if sort == "walker":
+        return is_walker_due(town, one, other, what, goers)
+    if sort == "still":
+        return is_still_due(town, one, other, what, goers)
+    return sort == "sign" and not abouts and is_sign_due(town, one, other, what, goers)
 
 
 def bar_between(town, one, other, *, goers=None, abouts=True):
@@ -139,4 +154,4 @@ def bar_between(town, one, other, *, goers=None, abouts=True):
 def bar_shows(town, one, other, paper, *, goers=None, abouts=True):
     """Tell whether the thing is a paper that is due, whichever others are."""
     names = need_question(town, one, other, goers, abouts)
-    return find_due(town, one, other, paper, names, abouts)
+    return is_due(town, one, other, paper, names, abouts)

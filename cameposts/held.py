@@ -43,9 +43,14 @@ def find_heap(town, standing, place):
     return [heap for heap in find_heaps(town, standing) if place in heap][0]
 
 
+def find_home(town, standing, name):
+    """List the places of the walker's heap."""
+    return find_heap(town, standing, place_of(town, dict(standing[1])[name]))
+
+
 def names_in(town, walkers, heap):
     """List the names of the walkers whose roads are in the heap, rising."""
-    return [name for name, end in walkers if place_of(town, end) in heap]
+    return [name for name, (road, _) in walkers if town[1][road][0] in heap]
 
 
 def find_goers(town, standing):

@@ -102,20 +102,25 @@ def is_right(play, goal, basins, thing):
     return all([play.posts[place] == goal[0][place] for place in basins[thing]])
 
 
+def link_goers(play, basins):
+    """Tell for each goer the numbers of the basins that its road touches, for each of these numbers the goers."""
+    numbers = range(len(basins))
+    links = {name: [at for at in numbers if play.touches(play.road_of(name), basins[at])] for name in play.faces}
+    for number in numbers:
+        links[number] = [name for name in play.faces if number in links[name]]
+    return links
+
+
 def turn_all(play, goal):
     """Let goers run till each faces its end of the end, and each ring leads round as in the end."""
     basins = play.list_basins()
-    links = {name: [at for at, basin in enumerate(basins) if play.touches(play.road_of(name), basin)]
-             for name in play.faces}
-    for at in range(len(basins)):
-        links[at] = [name for name in play.faces if at in links[name]]
-    parents = find_parents(links)
+    parents = find_parents(link_goers(play, basins))
     # Evenly many are wrong in each heap, so that the first of it is right when all others are.
     for thing in list(parents)[::-1]:
         if not is_right(play, goal, basins, thing):
             ahead = parents[thing]
-            name, at = (thing, ahead) if isinstance(thing, str) else (ahead, thing)
-            play.turn(name, basins[at])
+            name, number = (thing, ahead) if isinstance(thing, str) else (ahead, thing)
+            play.turn(name, basins[number])
 
 
 def find_row(town, one, other):

@@ -1,7 +1,7 @@
 """Signs of clean heaps, and standings of one holding."""
 
 from cameposts.errors import NoPair
-from cameposts.held import count_held, find_goers, find_heap, find_heaps, join_places, names_in
+from cameposts.held import count_held, find_goers, find_heaps, join_places, names_in
 from cameposts.towns import need_place, need_standing, need_standings
 
 
@@ -40,20 +40,16 @@ def find_sign(line):
     return 1 if many % 2 == 0 else -1
 
 
+def is_turned(town, one, other, heap):
+    """Tell whether the heap is clean and its signs are unlike in two standings of one holding."""
+    holding = count_held(one)
+    line = find_line(town, one, holding, heap)
+    return line is not None and find_sign(line) != find_sign(find_line(town, other, holding, heap))
+
+
 def find_unlike(town, one, other):
     """List the least places, rising, of the clean heaps whose signs are unlike in two standings of one holding."""
-    first = find_lines(town, one)
-    second = find_lines(town, other)
-    return [place for place in first if find_sign(first[place]) != find_sign(second[place])]
-
-
-def is_unlike(town, one, other, place):
-    """Tell whether it is the least place of a clean heap whose signs are unlike in two standings of one holding."""
-    heap = find_heap(town, one, place)
-    holding = count_held(one)
-    first = find_line(town, one, holding, heap)
-    second = find_line(town, other, holding, heap)
-    return heap[0] == place and first is not None and find_sign(first) != find_sign(second)
+    return [heap[0] for heap in find_heaps(town, one) if is_turned(town, one, other, heap)]
 
 
 def need_pair(town, one, other):

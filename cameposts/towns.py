@@ -11,6 +11,10 @@ MOST_WALKERS = 4
 MOST_LETTERS = 8
 
 
+# Whatever gets a town and its standings looks at all of these first: the
+# shorter way is taken here, with fewer calls of smaller functions.
+
+
 def is_whole(thing):
     """Tell whether it is a whole number."""
     # For Python True and False are ints, too.
@@ -19,7 +23,7 @@ def is_whole(thing):
 
 def is_below(thing, limit):
     """Tell whether it is a whole number from 0 to limit - 1."""
-    return is_whole(thing) and 0 <= thing < limit
+    return isinstance(thing, int) and not isinstance(thing, bool) and 0 <= thing < limit
 
 
 def is_pair(thing):
@@ -29,19 +33,25 @@ def is_pair(thing):
 
 def is_road(thing, many):
     """Tell whether it is a tuple of two of so many places."""
-    return is_pair(thing) and is_below(thing[0], many) and is_below(thing[1], many)
+    if not isinstance(thing, tuple) or len(thing) != 2:
+        return False
+    start, end = thing
+    return is_below(start, many) and is_below(end, many)
 
 
 def is_end(town, thing):
     """Tell whether it is an end of a road of the town."""
-    return is_pair(thing) and is_below(thing[0], len(town[1])) and is_below(thing[1], 2)
+    if not isinstance(thing, tuple) or len(thing) != 2:
+        return False
+    road, side = thing
+    return is_below(road, len(town[1])) and is_below(side, 2)
 
 
 def is_name(thing):
     """Tell whether it is a text that can be a walker's name."""
     if not isinstance(thing, str) or not 1 <= len(thing) <= MOST_LETTERS:
         return False
-    return all(["a" <= sign <= "z" for sign in thing])
+    return thing.isascii() and thing.isalpha() and thing.islower()
 
 
 def is_walker(town, thing):

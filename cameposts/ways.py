@@ -1,6 +1,6 @@
 """Ways: rows of goers' deeds that lead from one standing to another, and the judging of them."""
 
-from cameposts.bars import find_bar, find_due, need_question, view_of
+from cameposts.bars import find_bar, is_due, need_question, view_of
 from cameposts.deeds import deeds_of, find_row_wrong, first_other, lead
 from cameposts.rows import find_row
 from cameposts.signs import find_unlike
@@ -52,4 +52,4 @@ def way_judged(town, one, other, thing, *, goers=None, abouts=True):
         return ("way",)
     if thing[0] == "row":
         return judge_row(town, one, other, thing[1], names, abouts)
-    return None if find_due(town, one, other, thing[1], names, abouts) else ("bar",)
+    return None if is_due(town, one, other, thing[1], names, abouts) else ("bar",)

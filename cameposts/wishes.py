@@ -2,7 +2,7 @@
 
 from cameposts.bars import find_bar, names_of
 from cameposts.errors import NoWishes
-from cameposts.held import find_heap, find_heaps, list_held, names_in
+from cameposts.held import find_heap, find_heaps, find_home, list_held, names_in
 from cameposts.towns import find_standing_wrong, is_below, is_end, is_pair, need_standing, place_of
 
 
@@ -59,11 +59,6 @@ def list_left(standing, wishes):
 def has_walkers(town, standing, heap):
     """Tell whether a walker stands on a road of the heap."""
     return names_in(town, standing[1], heap) != []
-
-
-def find_home(town, standing, name):
-    """List the places of the walker's heap."""
-    return find_heap(town, standing, place_of(town, dict(standing[1])[name]))
 
 
 def find_stiff(town, standing, posts):
